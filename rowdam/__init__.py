@@ -1,0 +1,1 @@
+"""Rowdam: a works of pipes that tells what the plain reading tells."""
