@@ -35,6 +35,16 @@ NODES = """
     Sub Mult FloorDiv Mod Pow BitAnd BitOr BitXor Invert LShift RShift USub UAdd Eq NotEq Lt LtE Gt GtE In NotIn Is
     IsNot
 """.split()
+WALKED = ["zip", "enumerate", "reversed", "range"]
+WALKED_METHODS = ["items", "keys", "values"]
+WALKERS = ["list", "tuple", "dict", "sorted", "sum", "any", "all", "enumerate", "zip", "min", "max"]
+KEYWORDS = {
+    "sorted": ["key", "reverse"], "min": ["key", "default"], "max": ["key", "default"], "sum": ["start"],
+    "enumerate": ["start"], "zip": ["strict"],
+}
+OWN_KINDS = [str, int, list, dict, set, bytes, tuple]
+VALUES_THOUGH_OWN = "count index title find get join lower upper split strip copy add".split()
+METHODS_THOUGH_OWN = OWN_METHODS + ["add", "discard"]
 
 
 def is_plain(node):
@@ -57,6 +67,17 @@ def bound_names(tree):
             yield node.id
         elif isinstance(node, ast.Attribute) and isinstance(node.ctx, ast.Store):
             yield node.attr
+
+
+def locals_of(node):
+    """The names that a def binds: its parameters and whatever is stored in it."""
+    for part in ast.walk(node):
+        if isinstance(part, ast.arg):
+            yield part.arg
+        elif isinstance(part, ast.Name) and isinstance(part.ctx, ast.Store):
+            yield part.id
+        elif isinstance(part, ast.ExceptHandler) and part.name:
+            yield part.name
 
 
 class Language(unittest.TestCase):
@@ -162,6 +183,133 @@ class Language(unittest.TestCase):
         for place, node in self.nodes(ast.Attribute):
             if isinstance(node.ctx, ast.Store):
                 self.assertNotIn(node.attr, methods, place)
+
+    def test_no_local_is_called_like_a_class_an_import_or_a_name_of_pythons_own(self):
+        for path, tree in self.trees.items():
+            taken = [name.name for node in ast.walk(tree) if isinstance(node, ast.ImportFrom) for name in node.names]
+            taken += [node.name for node in tree.body if isinstance(node, (ast.FunctionDef, ast.ClassDef))]
+            for node in ast.walk(tree):
+                if isinstance(node, ast.FunctionDef):
+                    for name in locals_of(node):
+                        self.assertNotIn(name, taken + dir(builtins), f"{path.name}:{node.lineno}")
+
+    def test_each_name_is_bound_once_at_the_top(self):
+        for path, tree in self.trees.items():
+            bound = list(bound_names(ast.Module([n for n in tree.body if isinstance(n, ast.Assign)], [])))
+            bound += [node.name for node in tree.body if isinstance(node, (ast.FunctionDef, ast.ClassDef))]
+            bound += [name.name for node in tree.body if isinstance(node, ast.ImportFrom) for name in node.names]
+            self.assertEqual(len(bound), len(set(bound)), path)
+            for node in tree.body:
+                if isinstance(node, ast.ClassDef):
+                    methods = [part.name for part in node.body if isinstance(part, ast.FunctionDef)]
+                    self.assertEqual(len(methods), len(set(methods)), path)
+
+    def test_no_two_files_draw_from_one_another(self):
+        drawn = {
+            path.stem: {node.module.split(".")[1] for node in tree.body if isinstance(node, ast.ImportFrom)}
+            for path, tree in self.trees.items()
+        }
+        while drawn:
+            free = [name for name, froms in drawn.items() if not froms & set(drawn)]
+            self.assertTrue(free, drawn)
+            for name in free:
+                del drawn[name]
+
+    def test_every_import_is_used(self):
+        for path, tree in self.trees.items():
+            used = {node.id for node in ast.walk(tree) if isinstance(node, ast.Name)}
+            for node in tree.body:
+                if isinstance(node, ast.ImportFrom):
+                    self.assertEqual({name.name for name in node.names} - used, set(), path)
+
+    def test_f_strings_hold_plain_names(self):
+        for place, node in self.nodes(ast.FormattedValue):
+            self.assertIsInstance(node.value, ast.Name, place)
+            self.assertIsNone(node.format_spec, place)
+
+    def test_errors_are_taken_by_name_and_made_on_the_spot(self):
+        for place, node in self.nodes(ast.ExceptHandler):
+            self.assertIsInstance(node.type, ast.Name, place)
+            self.assertNotIn(node.type.id, dir(builtins), place)
+        for place, node in self.nodes(ast.Raise):
+            self.assertIsInstance(node.exc, ast.Call, place)
+
+    def test_what_is_walked_is_walked_on_the_spot(self):
+        allowed = []
+        for place, node in self.nodes(ast.For, ast.comprehension):
+            allowed.append(node.iter)
+        for place, node in self.nodes(ast.Call):
+            if isinstance(node.func, ast.Name) and node.func.id in WALKERS:
+                allowed.extend(node.args[:1])
+            if isinstance(node.func, ast.Attribute) and node.func.attr == "join":
+                self.assertIsInstance(node.func.value, ast.Constant, place)
+                allowed.extend(node.args)
+        for place, node in self.nodes(ast.Call):
+            by_name = isinstance(node.func, ast.Name) and node.func.id in WALKED
+            by_method = isinstance(node.func, ast.Attribute) and node.func.attr in WALKED_METHODS
+            if by_name or by_method:
+                self.assertIn(node, allowed, place)
+
+    def test_keywords_of_pythons_own(self):
+        for place, node in self.nodes(ast.Call):
+            name = node.func.id if isinstance(node.func, ast.Name) else node.func.attr
+            if name in OWN_NAMES + OWN_METHODS:
+                for word in node.keywords:
+                    self.assertIn(word.arg, KEYWORDS.get(name, []), place)
+
+    def test_methods_are_called_where_they_stand(self):
+        methods = [
+            part.name for place, node in self.nodes(ast.ClassDef) for part in node.body
+            if isinstance(part, ast.FunctionDef)
+        ]
+        called = [node.func for place, node in self.nodes(ast.Call)]
+        for place, node in self.nodes(ast.Attribute):
+            if node.attr in methods + OWN_METHODS:
+                self.assertIn(node, called, place)
+
+    def test_names_of_methods_and_values_are_free(self):
+        own = [name for kind in OWN_KINDS for name in dir(kind)]
+        for place, node in self.nodes(ast.ClassDef):
+            for part in node.body:
+                if isinstance(part, ast.FunctionDef) and part.name not in DUNDERS:
+                    self.assertTrue(part.name not in own or part.name in METHODS_THOUGH_OWN, place)
+        for place, node in self.nodes(ast.Attribute):
+            if isinstance(node.ctx, ast.Store):
+                self.assertTrue(node.attr not in own or node.attr in VALUES_THOUGH_OWN, place)
+
+    def test_classes_are_not_handed_on(self):
+        classes = [node.name for place, node in self.nodes(ast.ClassDef)]
+        allowed = []
+        for place, node in self.nodes(ast.Call, ast.ClassDef, ast.ExceptHandler, ast.Attribute):
+            if isinstance(node, ast.Call):
+                allowed.append(node.func)
+                if isinstance(node.func, ast.Name) and node.func.id == "isinstance":
+                    allowed.append(node.args[1])
+            elif isinstance(node, ast.ClassDef):
+                allowed.extend(node.bases)
+            elif isinstance(node, ast.ExceptHandler):
+                allowed.append(node.type)
+            elif node.attr == "__init__":
+                allowed.append(node.value)
+        for place, node in self.nodes(ast.Name):
+            if node.id in classes:
+                self.assertIn(node, allowed, place)
+
+    def test_lists_and_dicts_of_the_top_are_read_alone(self):
+        for path, tree in self.trees.items():
+            kept = [
+                node.targets[0].id for node in tree.body
+                if isinstance(node, ast.Assign) and isinstance(node.value, (ast.List, ast.Dict))
+            ]
+            for node in ast.walk(tree):
+                if isinstance(node, ast.Return) and isinstance(node.value, ast.Name):
+                    self.assertNotIn(node.value.id, kept, path)
+                if isinstance(node, (ast.Subscript, ast.Attribute)) and isinstance(node.ctx, ast.Store):
+                    self.assertFalse(isinstance(node.value, ast.Name) and node.value.id in kept, path)
+                if isinstance(node, ast.Assign) and isinstance(node.value, (ast.List, ast.Dict)):
+                    if node in tree.body:
+                        parts = node.value.values if isinstance(node.value, ast.Dict) else node.value.elts
+                        self.assertFalse(any(isinstance(part, (ast.List, ast.Dict)) for part in parts), path)
 
 
 if __name__ == "__main__":
