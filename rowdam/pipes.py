@@ -39,5 +39,8 @@ class Pipe:
         self.owed = 0
         return given
 
+    def is_empty(self):
+        return not self.contents
+
     def inside(self):
         return list(self.contents)

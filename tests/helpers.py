@@ -1,10 +1,11 @@
-"""What several tests share: rows and items, and what is promised of every station."""
+"""What several tests share: rows, items and works, and what is promised of every station and every machine."""
 
 import copy
 
-from rowdam.plain import told_of
+from rowdam.errors import TooMuch
+from rowdam.plain import check_rows, plain, told_of
 from rowdam.things import LAST
-from rowdam.works import read_works
+from rowdam.works import ins_of, outs_of, pipes_of, read_works
 
 MOST = 10**60
 
@@ -115,3 +116,130 @@ def check_states_are_apart(test, make, steps):
     for way, item in steps:
         other.take_in(way, item)
     test.assertEqual(station.state(), before)
+
+
+FOLDS = ["sum", "count", "most", "least"]
+WORDS = ["keep", "turn", "share", "pour", "fixed", "slide", "gap", "join", "out"]
+
+
+def random_row_text(chance, name, names, word):
+    def some():
+        return chance.choice(names)
+
+    fold = chance.choice(FOLDS)
+    if word == "keep":
+        return f"keep {name} {some()} " + chance.choice(["< v 3", "not = t 4", "or < t 6 = v 2", "< 4 * v v"])
+    if word == "turn":
+        return f"turn {name} {some()} " + chance.choice(["+ v 1", "- t v", "* v v", "least v 2", "7"])
+    if word == "share":
+        many = chance.randrange(1, 5)
+        return f"share {name} {some()} {chance.randrange(many)} {many}"
+    if word == "pour":
+        return f"pour {name} " + " ".join(some() for k in range(chance.choice([2, 2, 3, 5])))
+    if word == "fixed":
+        return f"fixed {name} {some()} {chance.randrange(1, 9)} {fold}"
+    if word == "slide":
+        return f"slide {name} {some()} " + chance.choice(["10 4", "3 1", "5 5", "7 2", "8 1"]) + f" {fold}"
+    if word == "gap":
+        return f"gap {name} {some()} {chance.randrange(1, 8)} {fold}"
+    if word == "join":
+        return f"join {name} {some()} {some()} {chance.randrange(0, 7)} " + chance.choice(["- v w", "+ t w", "most v w"])
+    return f"out {name} {some()}"
+
+
+def random_row(chance, many):
+    row = []
+    time = 0
+    for place in range(many):
+        time += chance.choice([0, 0, 1, 2, 3])
+        near = max(0, time + chance.randrange(-4, 5))
+        if chance.random() < 0.35:
+            row.append(("mark", near))
+        else:
+            row.append(("thing", near, chance.choice(["a", "b", "c", "ba"]), chance.randrange(-5, 10)))
+    return row
+
+
+def random_works_and_rows(chance, many=10, length=9):
+    """A works of some ins, some rows of any kinds and outs, and rows for it that are let by."""
+    names = [f"i{k}" for k in range(chance.choice([1, 2, 2, 3]))]
+    lines = [f"in {name}" for name in names]
+    inner = list(names)
+    for k in range(chance.randrange(1, many)):
+        word = chance.choice(WORDS)
+        lines.append(random_row_text(chance, f"r{k}", inner, word))
+        if word != "out":
+            inner.append(f"r{k}")
+    for k in range(chance.randrange(1, 4)):
+        lines.append(f"out o{k} {chance.choice(inner)}")
+    works = read_works("\n".join(lines))
+    while True:
+        rows = {name: random_row(chance, chance.randrange(length + 1)) for name in names if chance.random() < 0.95}
+        try:
+            check_rows(works, rows)
+            return works, rows
+        except TooMuch:
+            length = max(1, length - 1)
+
+
+def random_rooms(chance, works):
+    most = chance.choice([1, 2, 5, 100])
+    return [chance.randrange(1, most + 1) for pipe in pipes_of(works)]
+
+
+def check_in_order(test, items):
+    """Each mark is above those ahead of it, no thing behind a mark above its time."""
+    so_far = -1
+    for item in items:
+        if item[0] == "mark":
+            test.assertGreater(item[1], so_far)
+            so_far = item[1]
+        elif item[0] == "thing":
+            test.assertGreaterEqual(item[1], so_far)
+
+
+def check_pipes(test, dam, works, rooms):
+    for pipe, (source, to, way) in enumerate(pipes_of(works)):
+        counts = dam.counts(pipe)
+        test.assertEqual(sum(counts), rooms[pipe])
+        test.assertGreaterEqual(min(counts), 0)
+        test.assertEqual(counts[1], len(dam.inside(pipe)))
+        check_in_order(test, dam.inside(pipe) + dam.tray(source))
+    for name in outs_of(works):
+        test.assertEqual(dam.tray(name), [])
+
+
+def is_something_left(dam, works, rows):
+    """Whether a machine without lines has anything left to do."""
+    if any(dam.drawn(name) <= len(rows.get(name, [])) for name in ins_of(works)):
+        return True
+    if any(dam.tray(row[1]) for row in works):
+        return True
+    return any(dam.counts(pipe)[1] or dam.counts(pipe)[2] for pipe in range(len(pipes_of(works))))
+
+
+def is_at_rest(dam):
+    return all(move[0] == "draw" for move in dam.moves())
+
+
+def come_to_rest(chance, dam):
+    """Does moves that are no draws, in any order, till there is none."""
+    found = [move for move in dam.moves() if move[0] != "draw"]
+    while found:
+        dam.do(chance.choice(found))
+        found = [move for move in dam.moves() if move[0] != "draw"]
+
+
+def check_rest(test, dam, works, rows):
+    """What is promised of a machine at rest, by what each in has drawn."""
+    draws = {name: dam.drawn(name) for name in ins_of(works)}
+    read = plain(works, rows, draws)
+    words = {row[1]: row[0] for row in works}
+    for row in works:
+        things, mark_so_far = read[row[1]]
+        test.assertEqual(min(dam.state(row[1])[0]), mark_so_far)
+        if row[0] == "out":
+            test.assertEqual(sorted(dam.told(row[1])), things)
+            test.assertEqual(dam.state(row[1])[1], dam.told(row[1]))
+            if words[row[2][0]] in ("fixed", "slide", "gap"):
+                test.assertEqual(dam.told(row[1]), things)
