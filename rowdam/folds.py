@@ -28,7 +28,7 @@ def ends_of(width, step, time):
     while end > time:
         ends.append(end)
         end -= step
-    return ends[::-1]
+    return list(reversed(ends))
 
 
 def chains(things, gap):

@@ -22,7 +22,7 @@ def is_move(x):
 
 
 class Dam:
-    """move_words, can_do, carry_out and station_takes are there for a machine that has more moves than this one."""
+    # move_words, can_do, carry_out and station_takes are methods of their own for a machine that has more moves.
 
     def __init__(self, works, rows, rooms):
         check_rows(works, rows)
@@ -40,11 +40,11 @@ class Dam:
         return Source(self.rows[row[1]]) if row[0] == "in" else station_of(row)
 
     def pipes_at(self, place, name):
-        """The numbers of the pipes that have the name at this place of (from, to, way)."""
+        # The place is one of (from, to, way).
         return [pipe for pipe, link in enumerate(self.links) if link[place] == name]
 
     def moves_of(self, works):
-        """All that may ever be possible, in the order in which moves are told."""
+        # All that may ever be possible, in the order in which moves are told.
         found = []
         for row in works:
             found.extend([(word, row[1]) for word in self.move_words(row[0])])
@@ -107,7 +107,7 @@ class Dam:
         self.carry_out(move)
 
     def first_moves(self):
-        """A list of the first of the moves, or of none."""
+        # Unlike moves, this looks no further than needed.
         for move in self.all_moves:
             if self.can_do(move):
                 return [move]

@@ -5,14 +5,13 @@ from rowdam.things import key_number
 
 
 def window_of(row):
-    """A tuple (width, step, fold) of a fixed or slide row."""
+    # A fixed row is a slide row whose step is its width.
     width = int(row[3][0])
     step = int(row[3][1]) if row[0] == "slide" else width
     return (width, step, row[3][-1])
 
 
 def gap_of(row):
-    """A tuple (gap, fold) of a gap row."""
     return (int(row[3][0]), row[3][1])
 
 
@@ -40,10 +39,10 @@ def turner_of(row):
 
 
 def pairer_of(row):
-    """A function that tells a list: what a join row makes of a thing of each FROM, or nothing."""
     span = int(row[3][0])
     change = change_of(row[3][1:], "tvw")
 
+    # Tells a list, since most pairs make nothing.
     def pair(one, other):
         if one[1] != other[1] or abs(one[0] - other[0]) > span:
             return []

@@ -9,8 +9,8 @@ def item_of(thing):
 
 
 class Station:
-    """What all stations have: the marks of the ways and the low. Each kind below says what it does with a thing, what
-    it keeps and what closes at a low; this one tells each thing as it is and keeps nothing, as a pour does."""
+    # The kinds below differ in what they do with a thing, what they keep and what closes at a low; where one says
+    # nothing of these, a thing is told as it is, nothing is kept and nothing closes.
 
     def __init__(self, row):
         self.marks = [0] * len(row[2])
@@ -122,10 +122,12 @@ class JoinStation(Station):
         return [item_of(pair) for pair in told]
 
     def close_at(self, low):
-        # No thing below the low comes any more, so these can find no partner.
-        left = [[thing for thing in kept if thing[0] + self.span >= low] for kept in self.kept]
-        self.kept = (left[0], left[1])
+        self.kept = (self.left_at(low, self.kept[0]), self.left_at(low, self.kept[1]))
         return []
+
+    def left_at(self, low, kept):
+        # No thing below the low comes any more, so the others can find no partner.
+        return [thing for thing in kept if thing[0] + self.span >= low]
 
     def all_kept(self):
         kept = []

@@ -104,7 +104,7 @@ def is_row(words):
 
 
 def has_its_names(row, words_above):
-    """Whether a row's names may stand there; words_above: from the name of each row above to its word."""
+    # words_above leads from the name of each row above to its word; a name that is none counts as an out's.
     if row[1] in words_above:
         return False
     return all([words_above.get(name, "out") != "out" for name in row[2]])

@@ -243,3 +243,24 @@ def check_rest(test, dam, works, rows):
             test.assertEqual(dam.state(row[1])[1], dam.told(row[1]))
             if words[row[2][0]] in ("fixed", "slide", "gap"):
                 test.assertEqual(dam.told(row[1]), things)
+
+
+def sorted_outs(works, states):
+    """States by name, with what outs kept sorted: the order in which it came is free."""
+    outs = outs_of(works)
+    return {name: (marks, sorted(kept) if name in outs else kept) for name, (marks, kept) in states.items()}
+
+
+def draw_to(chance, dam, draws):
+    """Draws by each in as many as told, in any order among other moves, and comes to rest."""
+    while True:
+        found = [move for move in dam.moves() if move[0] != "draw" or dam.drawn(move[1]) < draws[move[1]]]
+        if not found:
+            return
+        dam.do(chance.choice(found))
+
+
+def states_at_rest(chance, dam, works, draws):
+    """The states of a machine that was just made, when it drew so many and is at rest."""
+    draw_to(chance, dam, draws)
+    return sorted_outs(works, {row[1]: dam.state(row[1]) for row in works})

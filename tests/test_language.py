@@ -140,6 +140,11 @@ class Language(unittest.TestCase):
                 else:
                     self.assertIsInstance(node, (ast.ImportFrom, ast.FunctionDef, ast.ClassDef), path)
 
+    def test_statements_by_themselves_are_calls(self):
+        tops = [tree.body[0] for tree in self.trees.values()]
+        for place, node in self.nodes(ast.Expr):
+            self.assertTrue(node in tops or isinstance(node.value, ast.Call), place)
+
     def test_imports(self):
         for place, node in self.nodes(ast.Import, ast.ImportFrom):
             self.assertIsInstance(node, ast.ImportFrom, place)
