@@ -3,9 +3,8 @@
 from rowdam.errors import NoIn, NoOrder, NoRoom, NoText, TooMuch
 from rowdam.notes import read_item
 from rowdam.pipes import is_room
-from rowdam.works import ins_of, pipes_of, read_works, shown_works
+from rowdam.works import MOST_ROWS, ins_of, pipes_of, read_works, shown_works
 
-MOST_ROWS = 40
 MOST_ITEMS = 100
 
 

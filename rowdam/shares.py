@@ -4,11 +4,10 @@ from rowdam.errors import NoWide
 from rowdam.meanings import is_in_share
 from rowdam.states import copied_state
 from rowdam.things import is_whole
-from rowdam.works import MOST_SIGNS
+from rowdam.works import MOST_ROWS, MOST_SIGNS
 
 WIDE_WORDS = ("keep", "turn", "fixed", "slide", "gap", "join")
 MOST_MANY = 8
-MOST_ROWS = 40
 # Where the key stands in what a row keeps; a keep or turn row keeps nothing.
 KEY_PLACES = {"fixed": 1, "slide": 1, "gap": 2, "join": 2}
 

@@ -6,11 +6,12 @@ from rowdam.figures import FIGURES, is_count
 from rowdam.meanings import window_of
 from rowdam.things import LETTERS
 
-# How many FROMs each word has; a pour has as many as stand there.
+# How many FROMs each word has; a pour has two or more, and at most so many.
 FROMS = {
     "in": 0, "keep": 1, "turn": 1, "share": 1, "pour": 8, "fixed": 1, "slide": 1, "gap": 1, "join": 2, "out": 1,
 }
 FOLDS = ("sum", "count", "most", "least")
+MOST_ROWS = 40
 MOST_SIGNS = 12
 MOST_SHARES = 8
 MOST_SPREAD = 8
